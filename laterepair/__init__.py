@@ -1,0 +1,1 @@
+"""Laterepair: repair sums in live streams, judged for all losses that a rule lets."""
