@@ -6,6 +6,17 @@ MOST_PHASES = 6
 MOST_PLACES = 40
 MOST_PAIRS = 40
 MOST_OPEN = 20
+MOST_BURST = 8
+MOST_GAP = 12
+MOST_WIDTH = 6
+MOST_TOTAL = 12
+MOST_LIMIT = 5000
+MOST_TABLE = 5000
+MOST_JUDGED_TICKS = 2000
+MOST_SHOWN_TICKS = 5000
+
+# How many sums of rows with ages from 0 to 8 there are.
+MANY_SUMS = 512
 
 # For each word that begins the text of a rule with numbers: the name, the least and the greatest value of each.
 RULE_BOUNDS = {

@@ -16,15 +16,20 @@ def lessened(bits, rows):
     return rest
 
 
-def reduced(rows):
-    """The ascending tuple of the reduced rows of the space that these integers make."""
-    kept = []
-    for row in rows:
+def widened(rows, added):
+    """The ascending tuple of the reduced rows of the space that reduced rows and any further integers make."""
+    kept = list(rows)
+    for row in added:
         rest = lessened(row, kept)
         if rest > 0:
             kept = [min(old, old ^ rest) for old in kept]
             kept.append(rest)
     return tuple(sorted(kept))
+
+
+def reduced(rows):
+    """The ascending tuple of the reduced rows of the space that these integers make."""
+    return widened((), rows)
 
 
 def greatest_bit(row):

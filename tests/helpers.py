@@ -2,21 +2,32 @@
 
 from itertools import product
 
+from laterepair.compared import AtLeast, Pair, Parted
+from laterepair.delays import Delay, Fewest
 from laterepair.errors import BadText
 from laterepair.inside import Inside, Outside
+from laterepair.judged import InTime, Late
 from laterepair.plans import Plan, Tick
-from laterepair.rules import Burst, Total
+from laterepair.rules import Burst, Rule, Total
 from laterepair.spaces import Space
+from laterepair.standings import Standing
 
 # One value of each kind, and some of the same kind that are often mistaken for each other.
 ANY = [
     None, True, False, -1, -(10 ** 39), 10 ** 39, "", "0", "1", "a", "x", ".x", "-", "rows", "burst 1 1",
     "0 , 1", " ", "\n", (), (0,), (True,), (0, 1), [], [0], [1, 2], {}, {0: 1}, ((0,),), [[0]],
     Space(), Space(3), Tick(), Tick((0,)), Plan(Tick((0,))), Burst(1, 1), Total(0), Inside(()), Outside("x"),
-    BadText(0, 0),
+    BadText(0, 0), Standing(0, 0, Space(1)), Standing(None, True, ()), InTime(()), InTime((Standing(0, 0, Space(1)),)),
+    Late("x", (1,)), Late("", ()), Delay(0, (), None), Delay(None, (), "x"), Fewest(0, "", None), Fewest(1, "x", ()),
+    Pair(0, 0, Space(1), Space(1)), AtLeast(()), Parted("x"),
 ]
 NO_INTEGERS = [value for value in ANY if type(value) is not int]
 NO_STRINGS = [value for value in ANY if type(value) is not str]
+NO_PLANS = [value for value in ANY if not isinstance(value, Plan)]
+NO_RULES = [value for value in ANY if not isinstance(value, Rule)]
+NO_DELAYS = [-1, 9, 10 ** 39, *NO_INTEGERS]
+NO_LIMITS = [0, -1, 5001, 10 ** 39, *NO_INTEGERS]
+NO_BOOLS = [0, 1, *[value for value in ANY if type(value) is not bool]]
 
 
 class Errors:
@@ -30,6 +41,22 @@ class Errors:
             self.assertTrue(same(list(vars(error).items()), list(vars(wanted).items())), (vars(error), vars(wanted)))
         else:
             self.fail(f"{wanted!r} was not raised, but {result!r} returned")
+
+
+    def assert_refused(self, call, right, wrongs):
+        """Each wrong value raises its error, by name and by position, also ahead of each later wrong argument.
+
+        right are the arguments by name, in the order of the parameters; wrongs are triples of a name, the wrong
+        values, and a function that tells the error of a value, in the order in which they are looked at.
+        """
+        for at, (name, values, told) in enumerate(wrongs):
+            for value in values:
+                named = {**right, name: value}
+                self.assert_raised(told(value), call, **named)
+                self.assert_raised(told(value), call, *named.values())
+                for later, others, _ in wrongs[at + 1:]:
+                    for other in (others[0], others[-1]):
+                        self.assert_raised(told(value), call, **{**named, later: other})
 
 
 def same(one, other):

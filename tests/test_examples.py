@@ -43,6 +43,79 @@ INSIDE = '''
 >>> [shows_inside(Total(1), Total(2), Inside(((0, 0), (1, 1)))), shows_inside(Total(1), Total(2), Inside(((0, 0),))), shows_inside(Total(2), Total(1), Outside("x..x"))]
 [True, False, True]
 '''
+SEEN = '''
+>>> from laterepair.seen import tight_burst, tight_machine, tight_total, tight_window
+>>> [str(rule) for rule in (tight_burst("..xx.x", "x..."), tight_window(3, "..xx.x", "x..."), tight_total("..xx.x", "x..."))]
+['burst 2 1', 'window 2 3', 'total 3']
+>>> [str(tight_machine("x.x")), tight_burst("..."), str(tight_total()), "x..." in tight_machine("x.x"), "xx" in tight_machine("x.x")]
+['machine 1 2 / 1 - / 3 - / 1 1', None, 'total 0', True, False]
+'''
+STANDINGS = '''
+>>> from laterepair.plans import Plan, Tick
+>>> from laterepair.rules import Machine
+>>> from laterepair.spaces import Space
+>>> from laterepair.standings import Standing, least, ordered, reached, standing_behind, start, step
+>>> copy, single = Plan(Tick((0,), (1,))), Machine((0, 1), (0, None))
+>>> [start(copy, single, 1) == Standing(0, 0, Space(1, 2)), standing_behind(copy, single, 1, "..x") == Standing(0, 1, Space(2)), standing_behind(copy, single, 1, "xx")]
+[True, True, None]
+>>> found = step(copy, single, 1, Standing(0, 1, Space(2)), False)
+>>> [found.place, found.space.rows, step(copy, single, 1, found, True).space.rows, step(copy, single, 1, Standing(0, 1, Space(2)), True)]
+[0, (1, 2), (2,), None]
+>>> [[(one.phase, one.place, one.space.rows) for one in some] for some in (reached(copy, single, 1), least(copy, single, 1))]
+[[(0, 0, (1, 2)), (0, 1, (2,))], [(0, 0, (1, 2)), (0, 1, (2,))]]
+>>> pair = Plan(Tick((0,), (1, 2)))
+>>> standing_behind(pair, Machine((0, 0)), 3, "....") == Standing(0, 0, Space.whole(4))
+True
+>>> [standing_behind(pair, Machine((0, 1), (0, 2), (0, None)), 3, losses).space.rows for losses in (".xx", ".xx.", ".xx..")]
+[(4, 8), (1, 6, 8), (1, 2, 4, 8)]
+>>> standing_behind(copy, single, 1, ".y")
+raises BadLosses('.y')
+'''
+JUDGED = '''
+>>> from laterepair.judged import InTime, Late, judge
+>>> from laterepair.look_judged import shows_judged
+>>> double = Machine((0, 1), (0, 2), (0, None))
+>>> [bool(judge(copy, single, 1)), judge(copy, single, 1) == InTime(reached(copy, single, 1)), judge(copy, single, 0) == Late("x", (1,)), judge(copy, double, 1).losses]
+[True, True, True, 'xx']
+>>> [shows_judged(copy, double, 1, Late("xx", other)) for other in ((1, 0), (1, 1), (0, 1), (1, 0, 0))]
+[True, True, False, False]
+>>> [shows_judged(copy, double, 3, Late(".xx.", (0, 1, 0, 0))), shows_judged(copy, double, 2, Late(".xx.", (0, 1, 0, 0))), bool(judge(pair, double, 3)), judge(pair, double, 2).losses]
+[False, True, False, 'xx.']
+>>> thrice = Plan(Tick((0,), (1,), (2,)))
+>>> [judge(thrice, single, 2) == InTime((Standing(0, 0, Space(1, 2, 4)), Standing(0, 1, Space(2, 4)))), shows_judged(thrice, single, 2, InTime((Standing(0, 0, Space(2, 4)), Standing(0, 1, Space(4))))), shows_judged(copy, single, 1, InTime((Standing(0, 0, Space(1, 2)),)))]
+[True, True, False]
+>>> judge(copy, single, 1, limit=1)
+raises TooMany('standings', 1)
+'''
+DELAYS = '''
+>>> from laterepair.delays import Delay, Fewest, fewest_losses, worst_delay, worst_delays
+>>> from laterepair.look_delays import shows_delay, shows_fewest
+>>> from laterepair.plans import Plan, Tick
+>>> from laterepair.rules import Burst
+>>> from laterepair.spaces import Space
+>>> from laterepair.standings import Standing
+>>> again, pairs = Plan(Tick((0,), (1,))), Plan(Tick((0,), (1, 2)))
+>>> worst_delay(again, Burst(1, 1), 0) == Delay(1, (Standing(0, 0, Space(1, 2)), Standing(0, 1, Space(2))), "x")
+True
+>>> [worst_delays(again, Burst(1, 1)), worst_delays(again, Burst(2, 2)), worst_delays(pairs, Burst(2, 2)), worst_delays(Plan(Tick((0,)), Tick((1,), mute=True)), Burst(1, 1))]
+[(1,), (None,), (3,), (1, 'mute')]
+>>> [fewest_losses(again, 1).number, fewest_losses(again, 1).losses, fewest_losses(pairs, 3).number, fewest_losses(again, 1, Burst(1, 1)).number]
+[2, 'xx', 3, None]
+>>> [shows_delay(again, Burst(1, 1), 0, 8, worst_delay(again, Burst(1, 1), 0)), shows_fewest(again, 1, None, Fewest(2, "xx.", fewest_losses(again, 1).table))]
+[True, True]
+>>> worst_delay(Plan(Tick((1,), mute=True)), Burst(1, 1), 0)
+raises NoPhase(0)
+'''
+COMPARED = '''
+>>> from laterepair.compared import AtLeast, Pair, Parted, compare, order
+>>> from laterepair.look_compared import shows_compared
+>>> [compare(again, pairs, Burst(2, 2), 3) == Parted("xx.."), bool(compare(pairs, again, Burst(2, 2), 3)), order(again, pairs, Burst(2, 2), 3), order(again, again >> 1, Burst(2, 2), 3)]
+[True, True, 'worse', 'alike']
+>>> compare(again, again, Total(0), 0) == AtLeast((Pair(0, 0, Space(1, 2), Space(1, 2)),))
+True
+>>> shows_compared(pairs, again, Burst(2, 2), 3, compare(pairs, again, Burst(2, 2), 3))
+True
+'''
 
 
 def parts_of(text):
@@ -66,7 +139,7 @@ class TestExamples(unittest.TestCase):
 
     def test_examples(self):
         names = {}
-        for text in (SPACES, PLANS, RULES, INSIDE):
+        for text in (SPACES, PLANS, RULES, INSIDE, SEEN, STANDINGS, JUDGED, DELAYS, COMPARED):
             for source, wanted in parts_of(text):
                 if wanted is None:
                     exec(source, names)

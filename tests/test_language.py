@@ -165,6 +165,15 @@ class TestWords(unittest.TestCase):
             if isinstance(node.func, ast.Attribute):
                 self.assertIn(node.func.attr, METHODS | own, place(path, node))
 
+    def test_what_stands_behind_stars(self):
+        for path, node in nodes(ast.Call):
+            for part in node.args:
+                if isinstance(part, ast.Starred):
+                    self.assertIsInstance(part.value, (ast.Name, ast.Attribute), place(path, node))
+
+    def test_generator_expressions_are_lists(self):
+        self.assertEqual([place(path, node) for path, node in nodes(ast.GeneratorExp)], [])
+
     def test_classes(self):
         for path, node in nodes(ast.ClassDef):
             self.assertEqual(node.decorator_list, [], place(path, node))
