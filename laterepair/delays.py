@@ -12,7 +12,7 @@ from laterepair.tables import lowest
 
 
 class Delay:
-    """The least delay that the rows of a phase have: a table that shows it, and losses that show it of less."""
+    """The least delay that the rows of a phase have, with a table that shows it, and losses that a lesser one fails."""
 
     def __init__(self, number, table, losses):
         self.number = number
