@@ -14,6 +14,10 @@ MOST_LIMIT = 5000
 MOST_TABLE = 5000
 MOST_JUDGED_TICKS = 2000
 MOST_SHOWN_TICKS = 5000
+MOST_PLAYED_TICKS = 400
+
+# The greatest phase and place that are written in the text of a verdict.
+MOST_WRITTEN = 1000
 
 # How many sums of rows with ages from 0 to 8 there are.
 MANY_SUMS = 512

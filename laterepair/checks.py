@@ -16,6 +16,11 @@ def is_within(value, least, most):
     return is_integer(value) and least <= value <= most
 
 
+def is_natural(value):
+    """Whether this is an integer from 0 on."""
+    return is_integer(value) and value >= 0
+
+
 def is_age(value):
     """Whether this is an integer from 0 to 8, the age of a row in a sum."""
     return is_within(value, 0, MOST_AGE)

@@ -183,9 +183,13 @@ class Plan:
     @classmethod
     def read(cls, text):
         """The plan whose `str` is this text."""
-        parts = plan_parts(words_of(text), 0)
-        ticks = [Tick(*sums, mute=mute) for sums, mute in parts]
+        ticks = ticks_of(plan_parts(words_of(text), 0))
         return cls(*ticks)
+
+
+def ticks_of(parts):
+    """The Ticks of the sums of each, and whether each is mute."""
+    return [Tick(*sums, mute=mute) for sums, mute in parts]
 
 
 def joined_tick(one, other):

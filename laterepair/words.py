@@ -6,7 +6,7 @@ if one is missing.
 """
 
 from laterepair.bounds import MOST_BITS, MOST_OPEN, MOST_PAIRS, MOST_PHASES, MOST_SUMS, RULE_BOUNDS
-from laterepair.checks import MOST_AGE
+from laterepair.checks import MOST_AGE, is_losses
 from laterepair.errors import BadText
 
 
@@ -30,14 +30,33 @@ def ended(words, at):
         raise BadText(0, at)
 
 
-def tells_number(word, least, most):
-    """Whether this word, or None, is an integer from least to most as `str` writes it."""
+def fixed_at(words, at, fixed):
+    """Raises BadText unless this fixed word stands here."""
+    if word_at(words, at) != fixed:
+        raise BadText(0, at)
+
+
+def tells_natural(word):
+    """Whether this word, or None, is an integer from 0 on as `str` writes it."""
     if word is None or not (word.isascii() and word.isdigit()):
         return False
+    return word[0] != "0" or len(word) == 1
+
+
+def tells_number(word, least, most):
+    """Whether this word, or None, is an integer from least to most as `str` writes it."""
     # A word of more digits is too great, and might be too long for int.
-    if len(word) > len(str(most)) or (word[0] == "0" and len(word) > 1):
+    if not tells_natural(word) or len(word) > len(str(most)):
         return False
     return least <= int(word) <= most
+
+
+def natural_at(words, at):
+    """The integer from 0 on that must stand here."""
+    word = word_at(words, at)
+    if not tells_natural(word):
+        raise BadText(0, at)
+    return int(word)
 
 
 def number_at(words, at, least, most):
@@ -46,6 +65,14 @@ def number_at(words, at, least, most):
     if not tells_number(word, least, most):
         raise BadText(0, at)
     return int(word)
+
+
+def losses_at(words, at):
+    """The losses, of at least one tick, that must stand here."""
+    word = word_at(words, at)
+    if not is_losses(word) or word == "":
+        raise BadText(0, at)
+    return word
 
 
 def space_rows(words, at):
@@ -174,3 +201,14 @@ def rule_steps(words, at):
             raise BadText(0, at)
         opened[-1] = words[at]
         at = at + 1
+
+
+def packet_parts(words, at):
+    """The number of the tick, and the tuple of the values, of the packet that stands from here to the end."""
+    tick = natural_at(words, at)
+    fixed_at(words, at + 1, ":")
+    if word_at(words, at + 2) == "-":
+        ended(words, at + 3)
+        return tick, ()
+    parts = [natural_at(words, place) for place in range(at + 2, max(at + 3, len(words)))]
+    return tick, tuple(parts)

@@ -2,8 +2,11 @@
 
 from itertools import product
 
+from laterepair.bench import Bench
+from laterepair.better import Barred, Found
 from laterepair.compared import AtLeast, Pair, Parted
 from laterepair.delays import Delay, Fewest
+from laterepair.desk import Desk
 from laterepair.errors import BadText
 from laterepair.inside import Inside, Outside
 from laterepair.judged import InTime, Late
@@ -11,6 +14,7 @@ from laterepair.plans import Plan, Tick
 from laterepair.rules import Burst, Rule, Total
 from laterepair.spaces import Space
 from laterepair.standings import Standing
+from laterepair.streams import Packet, Receiver, Sender
 
 # One value of each kind, and some of the same kind that are often mistaken for each other.
 ANY = [
@@ -19,7 +23,9 @@ ANY = [
     Space(), Space(3), Tick(), Tick((0,)), Plan(Tick((0,))), Burst(1, 1), Total(0), Inside(()), Outside("x"),
     BadText(0, 0), Standing(0, 0, Space(1)), Standing(None, True, ()), InTime(()), InTime((Standing(0, 0, Space(1)),)),
     Late("x", (1,)), Late("", ()), Delay(0, (), None), Delay(None, (), "x"), Fewest(0, "", None), Fewest(1, "x", ()),
-    Pair(0, 0, Space(1), Space(1)), AtLeast(()), Parted("x"),
+    Pair(0, 0, Space(1), Space(1)), AtLeast(()), Parted("x"), Found(Plan(Tick((0,))), InTime(()), ()), Barred(()),
+    Packet(0, (1,)), Packet(None, []), Sender(Plan(Tick((0,)))), Receiver(Plan(Tick((0,))), 1),
+    Bench(Plan(Tick((0,)))), Desk(),
 ]
 NO_INTEGERS = [value for value in ANY if type(value) is not int]
 NO_STRINGS = [value for value in ANY if type(value) is not str]
@@ -27,6 +33,7 @@ NO_PLANS = [value for value in ANY if not isinstance(value, Plan)]
 NO_RULES = [value for value in ANY if not isinstance(value, Rule)]
 NO_DELAYS = [-1, 9, 10 ** 39, *NO_INTEGERS]
 NO_LIMITS = [0, -1, 5001, 10 ** 39, *NO_INTEGERS]
+NO_ROWS = [-1, 10 ** 30 + 1, 10 ** 39, *NO_INTEGERS]
 NO_BOOLS = [0, 1, *[value for value in ANY if type(value) is not bool]]
 
 
@@ -41,7 +48,6 @@ class Errors:
             self.assertTrue(same(list(vars(error).items()), list(vars(wanted).items())), (vars(error), vars(wanted)))
         else:
             self.fail(f"{wanted!r} was not raised, but {result!r} returned")
-
 
     def assert_refused(self, call, right, wrongs):
         """Each wrong value raises its error, by name and by position, also ahead of each later wrong argument.

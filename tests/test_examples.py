@@ -116,6 +116,77 @@ True
 >>> shows_compared(pairs, again, Burst(2, 2), 3, compare(pairs, again, Burst(2, 2), 3))
 True
 '''
+BETTER = '''
+>>> from laterepair.better import first_plan, needless, slim, spare, trimmed
+>>> from laterepair.look_better import shows_first
+>>> from laterepair.plans import Plan
+>>> [needless(Plan.read("0 , 1 , 0 1 / mute 1 , 2")), str(trimmed(Plan.read("0 , 1 , 0 1")))]
+[((0, 1), (0, 2), (1, 1)), '0 , 1']
+>>> one = Burst(1, 1)
+>>> [spare(Plan.read("0 , 1 , 2"), one, 1), str(slim(Plan.read("0 , 1 , 2"), one, 1)), spare(Plan.read("0"), one, 1)]
+[((0, 2),), '0 , 1', ()]
+>>> found = first_plan(2, 1, one, 1)
+>>> [bool(found), str(found.plan), [(str(plan), paper.losses) for plan, paper in found.losers], shows_first(2, 1, one, 1, found), bool(first_plan(1, 1, Burst(2, 1), 1))]
+[True, '0 , 1', [('0', 'x.')], True, False]
+'''
+STREAMS = '''
+>>> from laterepair.streams import Packet, Receiver, Sender, play
+>>> sender, receiver = Sender(pair), Receiver(pair, 3)
+>>> packets = [sender.send(row) for row in (5, 6, 3, 9)]
+>>> [str(packet) for packet in packets]
+['0 : 5 0', '1 : 6 5', '2 : 3 3', '3 : 9 5']
+>>> [receiver.hear(packets[2]), receiver.known(2).rows, receiver.hear(packets[3]), receiver.told]
+[((2, 3),), (1, 6), ((0, 5), (1, 6), (3, 9)), {0: 5, 1: 6, 2: 3, 3: 9}]
+>>> [play(pair, [5, 6, 3, 9], "xx.x", 3).late, play(pair, [5, 6, 3, 9], "xx.xx", 3).late, receiver.worth(9), str(receiver.undo())]
+[(), (0,), 12, 'None']
+>>> receiver.hear(Packet(3, (9,)))
+raises BadPacket('parts')
+'''
+BENCH = '''
+>>> from laterepair.bench import Bench
+>>> from laterepair.plans import Plan, Tick
+>>> bench = Bench(Plan(Tick((0,), (1,))))
+>>> [bench.add(Tick((0,))), bench.put(1, (1, 2)), str(bench.now), len(bench), str(bench[0])]
+[1, None, '0 , 1 / 0 , 1 2', 2, '0 , 1']
+>>> bench[0] = Tick((0,), mute=False)
+>>> [str(bench.drop(1)), str(bench.now), bench.undo(), bench.undo(), str(bench.now), len(bench)]
+['0 , 1 2', '0', 'drop', 'set', '0 , 1 / 0 , 1 2', 2]
+>>> bench.tried(lambda same: (same.turn(1), str(same.now)))
+(None, '0 , 1 2 / 0 , 1')
+>>> bench.drop(2)
+raises NoPhase(2)
+'''
+TEXTS = '''
+>>> from laterepair.judged import InTime, Late
+>>> from laterepair.reader import read_packets, read_setting, read_verdict
+>>> from laterepair.rules import Burst
+>>> from laterepair.standings import Standing
+>>> from laterepair.texts import setting_text, verdict_text
+>>> page = setting_text(Plan(Tick((0,), (1,))), Burst(1, 1), 1)
+>>> [page.split("\\n"), setting_text(*read_setting(page)) == page, read_packets("-")]
+[['plan 0 , 1', 'rule burst 1 1', 'delay 1'], True, ()]
+>>> [read_verdict("late\\nxx\\n1 0") == Late("xx", (1, 0)), verdict_text(InTime((Standing(0, 1, Space(2)),))).split("\\n")]
+[True, ['in time', '0 1 2']]
+>>> read_setting("plan 0 , 1\\nrule burst 1 1\\ndelay 9")
+raises BadText(2, 1)
+>>> read_verdict("late\\nxx\\n1")
+raises BadText(2, 1)
+'''
+DESK = '''
+>>> from laterepair.desk import Desk
+>>> desk = Desk()
+>>> desk.run("plan a 0 , 1", "plan b 0 , 1 2", "rule one burst 1 1", "rule two burst 2 2", "judge a one 1", "judge a two 1", "worst b two", "worst a two", "fewest b 3", "fewest a 1 one")
+['ok', 'ok', 'ok', 'ok', 'in time 2', 'late 2', '3', '-', '3', '-']
+>>> desk.run("order a b two 3", "join c a b", "show c", "lets one xx", "inside one two", "play a .xx.. 1", "known a .xx.. 1", "names", "undo", "names", "tell two")
+['worse', 'ok', '0 , 1 , 1 2', 'no 1', 'outside x.x', '1', '1 2', 'a b c / one two', 'ok', 'a b / one two', 'burst 2 2']
+>>> [len(desk), desk("put a 0 1 2"), desk("show a"), desk("spare a one 1"), desk("undo")]
+[4, 'ok', '0 , 1 , 1 2', '0:1 0:2', 'ok']
+>>> desk("judge a one 9")
+raises BadCommand(3)
+>>> desk("judge z one 1")
+raises NoName('z')
+'''
+ALL = (SPACES, PLANS, RULES, INSIDE, SEEN, STANDINGS, JUDGED, DELAYS, COMPARED, BETTER, STREAMS, BENCH, TEXTS, DESK)
 
 
 def parts_of(text):
@@ -139,7 +210,7 @@ class TestExamples(unittest.TestCase):
 
     def test_examples(self):
         names = {}
-        for text in (SPACES, PLANS, RULES, INSIDE, SEEN, STANDINGS, JUDGED, DELAYS, COMPARED):
+        for text in ALL:
             for source, wanted in parts_of(text):
                 if wanted is None:
                     exec(source, names)

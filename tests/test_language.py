@@ -47,6 +47,11 @@ def defined(path):
     return names
 
 
+def is_setter(node):
+    """Whether a function sets the property of its name."""
+    return [ast.unparse(one) for one in node.decorator_list] == [f"{node.name}.setter"]
+
+
 class TestFiles(unittest.TestCase):
 
     def test_only_plain_files(self):
@@ -118,14 +123,15 @@ class TestWords(unittest.TestCase):
 
     def test_statements_and_signs(self):
         kinds = (ast.Global, ast.AsyncFunctionDef, ast.Await, ast.Div, ast.Set, ast.SetComp, ast.AnnAssign,
-                 ast.Try, ast.AugAssign)
+                 ast.AugAssign, ast.Delete, ast.Match, ast.Nonlocal, ast.NamedExpr)
         self.assertEqual([place(path, node) for path, node in nodes(kinds)], [])
         for path, node in nodes(ast.Constant):
             self.assertNotIsInstance(node.value, (float, complex, bytes), place(path, node))
             if isinstance(node.value, str):
                 self.assertNotIn(chr(37), node.value, place(path, node))
-        for path, node in nodes(ast.Pow):
-            self.fail(path)
+        for path, node in nodes(ast.BinOp):
+            if isinstance(node.op, ast.Pow):
+                self.assertTrue(isinstance(node.right, ast.Constant) and 0 <= node.right.value <= 64)
         for path, node in nodes(ast.Compare):
             for sign, side in zip(node.ops, node.comparators):
                 if isinstance(sign, (ast.Is, ast.IsNot)):
@@ -177,14 +183,38 @@ class TestWords(unittest.TestCase):
     def test_classes(self):
         for path, node in nodes(ast.ClassDef):
             self.assertEqual(node.decorator_list, [], place(path, node))
-            names = [part.name for part in node.body if isinstance(part, ast.FunctionDef)]
+            names = [part.name for part in node.body if isinstance(part, ast.FunctionDef) and not is_setter(part)]
             self.assertEqual(len(names), len(set(names)), place(path, node))
             for name in names:
                 if name.startswith("__"):
                     self.assertIn(name.strip("_"), DOUBLE, place(path, node))
         for path, node in nodes(ast.FunctionDef):
             for decorator in node.decorator_list:
-                self.assertIn(ast.unparse(decorator), ("property", "staticmethod", "classmethod"), place(path, node))
+                self.assertTrue(is_setter(node) or ast.unparse(decorator) in (
+                    "property", "staticmethod", "classmethod"), place(path, node))
+
+    def test_errors_are_own(self):
+        own = {node.name for path, node in nodes(ast.ClassDef) if path.name == "errors.py"}
+        for path, node in nodes(ast.Try):
+            self.assertFalse(node.finalbody or node.orelse, place(path, node))
+            for handler in node.handlers:
+                self.assertIn(ast.unparse(handler.type), own - {"RepairError"}, place(path, node))
+        for path, node in nodes(ast.Raise):
+            self.assertIn(ast.unparse(node.exc.func), own | {"TypeError"}, place(path, node))
+
+    def test_what_trials_restore(self):
+        for path, node in nodes(ast.FunctionDef):
+            if node.name == "__exit__":
+                for row in node.body:
+                    self.assertIsInstance(row, ast.Assign, place(path, node))
+                    self.assertIsInstance(row.value, (ast.Attribute, ast.Name), place(path, node))
+
+    def test_properties_are_not_assigned(self):
+        names = {node.name for _, node in nodes(ast.FunctionDef)
+                 if [one for one in node.decorator_list if ast.unparse(one) == "property"]}
+        for path, node in nodes(ast.Attribute):
+            if isinstance(node.ctx, ast.Store):
+                self.assertNotIn(node.attr, names, place(path, node))
 
     def test_no_name_is_a_method_and_an_attribute(self):
         methods = {part.name for _, node in nodes(ast.ClassDef) for part in node.body

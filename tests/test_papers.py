@@ -3,11 +3,13 @@
 import unittest
 from itertools import product
 
+from laterepair.better import Barred, Found
 from laterepair.compared import AtLeast, Pair, Parted
 from laterepair.delays import Delay, Fewest
 from laterepair.judged import InTime, Late
 from laterepair.spaces import Space
 from laterepair.standings import Standing
+from laterepair.streams import Packet
 from laterepair.verdicts import Verdict
 from tests.helpers import ANY
 
@@ -15,8 +17,9 @@ PAPERS = {
     Standing: ("phase", "place", "space"), InTime: ("table",), Late: ("losses", "other"),
     Delay: ("number", "table", "losses"), Fewest: ("number", "losses", "table"),
     Pair: ("phase", "place", "first", "second"), AtLeast: ("table",), Parted: ("losses",),
+    Found: ("plan", "table", "losers"), Barred: ("losers",), Packet: ("tick", "parts"),
 }
-TRUTHS = {InTime: True, Late: False, AtLeast: True, Parted: False}
+TRUTHS = {InTime: True, Late: False, AtLeast: True, Parted: False, Found: True, Barred: False}
 
 
 class TestPapers(unittest.TestCase):
