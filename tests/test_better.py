@@ -139,7 +139,7 @@ class TestSpare(Errors, unittest.TestCase):
     def test_the_last_sums_are_left_out_first(self):
         self.assertEqual(str(slim(Plan.read("0 , 2 , 1"), Total(1), 2)), "0 , 2")
         self.assertEqual(str(slim(Plan.read("0 , 1 , 2"), Total(1), 2)), "0 , 1")
-        self.assertEqual(spare(Plan.read("0 , 1 , 2"), Total(1), 2), ((0, 1), (0, 2)))
+        self.assertEqual(spare(Plan.read("0 , 1 , 2"), Total(1), 2), ((0, 0), (0, 1), (0, 2)))
         self.assertEqual(str(slim(Plan.read("0 , 1 / 0 , 1"), Total(0), 0)), "0 / 0")
         self.assertEqual(str(slim(Plan.read("mute 1 / mute 2 3"), Total(3), 0)), "mute - / mute -")
 
