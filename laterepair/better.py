@@ -1,6 +1,6 @@
 """Plans that are better than others: without sums that are not needed, or the first one that is in time."""
 
-from laterepair.arguments import check_delay, check_limit, check_plan, check_rule
+from laterepair.arguments import check_delay, check_plan, check_rule
 from laterepair.checks import MOST_AGE, is_within
 from laterepair.errors import BadCount
 from laterepair.judged import judge
@@ -130,7 +130,6 @@ def check_first(age, extra, rule, delay):
 def first_plan(age, extra, rule, delay, limit=2000):
     """A Found of the first candidate that is in time, a Barred if there is none."""
     check_first(age, extra, rule, delay)
-    check_limit(limit)
     losers = []
     for plan in candidates(age, extra):
         verdict = judge(plan, rule, delay, limit)

@@ -73,8 +73,7 @@ def packet_line(words):
 
 
 def no_packet_line(words):
-    """None, for the line that tells that there are no packets."""
-    fixed_at(words, 0, "-")
+    """What a line tells that begins with `-`, where no packets are written: nothing."""
     ended(words, 1)
 
 

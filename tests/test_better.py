@@ -1,6 +1,7 @@
 """Sums that are not needed, and the first plan that is in time."""
 
 import unittest
+from inspect import signature
 from itertools import combinations, product
 
 from laterepair.better import Barred, Found, first_plan, needless, slim, spare, trimmed
@@ -213,6 +214,13 @@ def candidates_by_hand(age, extra):
     for _, masks in sorted(found):
         plans.append(Plan(Tick(*[tuple(old for old in range(5) if mask >> old & 1) for mask in masks])))
     return plans
+
+
+class TestDefaults(unittest.TestCase):
+
+    def test_limits(self):
+        for call in (spare, slim, first_plan):
+            self.assertEqual(signature(call).parameters["limit"].default, 2000)
 
 
 class TestFirst(Errors, unittest.TestCase):

@@ -264,6 +264,21 @@ class TestShown(Errors, unittest.TestCase):
         self.assertIs(shows_compared(one >> 1, other >> 1, rule, delay, AtLeast((wide[0], table[1]))), False)
         self.assertIs(shows_compared(one >> 1, other >> 1, rule, delay, AtLeast((table[0], wide[1]))), True)
 
+    def test_rows_of_mute_ticks_of_all_ages(self):
+        for text in ("0 / 0 / mute -", "0 / mute - / 0 / 0", "mute - / 0 / mute - / 0 / 0", "0 / mute -", "0"):
+            plan = Plan.read(text)
+            for delay in range(9):
+                table = compare(plan, plan, Total(0), delay).table
+                self.assertEqual(len(table), len(plan))
+                for phase in range(len(plan)):
+                    # The row of the greatest age is not known; it is left out by the next step.
+                    pair = Pair(phase, 0, Space.whole(delay), Space.whole(delay + 1))
+                    mutes = [tick.mute for tick in plan]
+                    for _ in range(delay + 1):
+                        mutes = mutes[-1:] + mutes[:-1]
+                    paper = AtLeast(table + (pair,))
+                    self.assertIs(shows_compared(plan, plan, Total(0), delay, paper), mutes[phase], (text, delay, phase))
+
     def test_other_kinds_in_tables(self):
         table = compare(BOTH, AGAIN, TWO, 3).table
         for value in [list(table), {0: table}, *ANY]:
