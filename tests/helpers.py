@@ -7,7 +7,7 @@ from laterepair.better import Barred, Found
 from laterepair.compared import AtLeast, Pair, Parted
 from laterepair.delays import Delay, Fewest
 from laterepair.desk import Desk
-from laterepair.errors import BadText
+from laterepair.errors import BadText, RepairError
 from laterepair.inside import Inside, Outside
 from laterepair.judged import InTime, Late
 from laterepair.plans import Plan, Tick
@@ -120,3 +120,16 @@ def wrong_word(words, is_whole, endings):
         if not any(is_whole(words[:many] + ending) for ending in endings):
             return many - 1
     return None if is_whole(words) else len(words)
+
+
+def wrong_in(words, at, read):
+    """The index of the word that a reader of all words from at on refuses, None if all can stand."""
+    if len(words) == at:
+        return at
+    try:
+        read(" ".join(words[at:]))
+    except BadText as error:
+        return error.word + at
+    except RepairError:
+        return None
+    return None

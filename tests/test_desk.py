@@ -6,13 +6,13 @@ from laterepair.better import spare, trimmed
 from laterepair.compared import order
 from laterepair.delays import fewest_losses, worst_delays
 from laterepair.desk import Desk
-from laterepair.errors import BadCommand, BadPlan, BadRule, BadText, BadTick, NoName, NoPhase, RepairError, TooMany
+from laterepair.errors import BadCommand, BadPlan, BadRule, BadTick, NoName, NoPhase, RepairError, TooMany
 from laterepair.inside import inside
 from laterepair.judged import judge
 from laterepair.plans import Plan
 from laterepair.rules import Rule
 from laterepair.streams import play
-from tests.helpers import ANY, NO_STRINGS, Errors, changed_words, same
+from tests.helpers import ANY, NO_STRINGS, Errors, changed_words, same, wrong_in
 from tests.live import chosen, some_losses
 
 PLANS = {"a": "0 , 1", "b": "0 , 1 2", "c": "0 / mute 1 2", "d": "0 , 1 , 0 1 / mute 1 , 2", "one": "0", "full": "0 , 1 , 2 , 3 , 4 , 5",
@@ -73,18 +73,6 @@ def wrong_sum(words, at):
     return None
 
 
-def wrong_read(words, at, read):
-    if at == len(words):
-        return at
-    try:
-        read(" ".join(words[at:]))
-    except BadText as error:
-        return error.word + at
-    except RepairError:
-        return None
-    return None
-
-
 def wrong_word_of(line):
     """The index of the word that cannot stand in a line, None if all can."""
     words = line.split(" ")
@@ -97,7 +85,7 @@ def wrong_word_of(line):
         if kind == "S":
             return wrong_sum(words, at)
         if kind == "R":
-            return wrong_read(words, at, Plan.read if words[0] == "plan" else Rule.read)
+            return wrong_in(words, at, Plan.read if words[0] == "plan" else Rule.read)
         if at == len(words) or not FITS[kind](words[at]):
             return at
     return len(shape) + 1 if len(words) > len(shape) + 1 else None

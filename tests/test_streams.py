@@ -5,13 +5,13 @@ from itertools import permutations
 
 from laterepair.errors import BadCount, BadDelay, BadLosses, BadPacket, BadSpace, BadStream, BadText, Nothing
 from laterepair.judged import judge
-from laterepair.plans import Plan, Tick, copies, parity
+from laterepair.plans import Plan, copies, parity
 from laterepair.rules import Burst, Machine, Total, Window
 from laterepair.spaces import Space
 from laterepair.standings import standing_behind
 from laterepair.streams import Packet, Receiver, Sender, play
 from tests.helpers import ANY, NO_DELAYS, NO_INTEGERS, NO_PLANS, NO_ROWS, NO_STRINGS, Errors, all_texts, changed_words
-from tests.helpers import same, texts_up_to, wrong_word
+from tests.helpers import same, wrong_word
 from tests.live import SlowReceiver, chosen, some_losses, some_plan
 from tests.worlds import is_late, states_along
 

@@ -10,9 +10,10 @@ from laterepair.reader import read_packets, read_setting, read_verdict
 from laterepair.rules import Burst, Machine, Rule, Total, Window
 from laterepair.spaces import Space
 from laterepair.standings import Standing
-from laterepair.streams import Packet
+from laterepair.streams import Packet, Sender
 from laterepair.texts import packets_text, setting_text, verdict_text
 from tests.helpers import ANY, NO_DELAYS, NO_INTEGERS, NO_PLANS, NO_RULES, NO_STRINGS, Errors, changed_words, same
+from tests.helpers import wrong_in
 from tests.live import chosen, some_losses, some_plan
 
 RULES = [Total(0), Burst(2, 3), Window(1, 3), Machine((0, 1), (0, None)), Burst(2, 1) & (Total(2) | Window(1, 2))]
@@ -22,19 +23,6 @@ OTHERS = ["", "-", "0", "1", "9", "01", "x", ".", "plan", "in", "time", "late", 
 def number_word(word, most):
     """Whether this is an integer from 0 to most as `str` writes it."""
     return word in [str(number) for number in range(most + 1)]
-
-
-def wrong_in(words, at, read):
-    """The index of the word that a reader of the words from at on refuses, None if all can stand."""
-    if len(words) == at:
-        return at
-    try:
-        read(" ".join(words[at:]))
-    except BadText as error:
-        return error.word + at
-    except RepairError:
-        return None
-    return None
 
 
 def wrong_delay(words):
@@ -247,7 +235,6 @@ class TestPackets(Near, unittest.TestCase):
             self.assert_raised(BadStream("packets"), packets_text, packets=value)
 
     def test_streams(self):
-        from laterepair.streams import Sender
         chooser = chosen(33)
         for turn in range(40):
             plan = some_plan(chooser)
