@@ -11,6 +11,7 @@ from laterepair.words import packet_parts, words_of
 
 MOST_ROW = 10 ** 30
 MOST_JUMP = 100
+MOST_WAIT = 100
 
 
 class Packet:
@@ -142,7 +143,7 @@ class Receiver:
 
     def wait(self, ticks=1):
         """Lets so many ticks go by whose packets did not come."""
-        if not is_within(ticks, 1, MOST_JUMP):
+        if not is_within(ticks, 1, MOST_WAIT):
             raise BadCount(ticks)
         then = self.now + ticks
         self._past = Past((then, self._sums_at(then), ()), "wait", self._past)
